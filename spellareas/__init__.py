@@ -1,0 +1,1 @@
+"""Spells: a small language of effects on areas."""
