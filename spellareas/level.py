@@ -2,9 +2,11 @@
 
 from spellareas.areas import area_cells
 from spellareas.casting import cast_spell, changed_beings, changed_cells, gone_beings
-from spellareas.costs import spell_cost
+from spellareas.costs import area_bound, spell_cost
+from spellareas.exchange import exchanges
 from spellareas.printing import spell_form
 from spellareas.reading import Fault, read_lone_area, read_spell
+from spellareas.simpler import simpler_spell
 from spellareas.world import MOST_BEINGS, Aim, Being, Level, copy_of_level
 
 OPEN_LEVEL = 0
@@ -14,6 +16,11 @@ PRINT = 3
 COST = 4
 CAST = 5
 TRY = 6
+BOUND = 8
+APART = 9
+UNDO = 11
+WHO = 12
+GROUND = 13
 
 OUT_OF_RANGE = -1
 NO_LEVEL = -2
@@ -22,8 +29,10 @@ NOT_FREE = -4
 FAULTY = -4
 TOO_MANY_BEINGS = -5
 TOO_LITTLE_MANA = -6
+NOTHING_TO_UNDO = -8
 
 MOST_BYTES = 300
+MOST_UNDONE = 20
 
 # Of each call, by its place: the ranges of its numbers, and the range of its row's numbers (None: it has no row).
 CALLS = (
@@ -39,14 +48,26 @@ CALLS = (
     (((1, 1000), (0, 11), (0, 11)), (0, 255)),
     (((1, 1000), (0, 11), (0, 11)), (0, 255)),
     (((1, 1000), (0, 11), (0, 11)), (0, 255)),
+    # bound, apart, tidy: a text
+    ((), (0, 255)),
+    ((), (0, 255)),
+    ((), (0, 255)),
+    # undo
+    ((), None),
+    # who: a being
+    (((1, 1000),), None),
+    # ground, level
+    ((), None),
+    ((), None),
 )
 
 
 class Table:
-    """What the calls are made on: the level that's open, or None."""
+    """What the calls are made on: the level that's open, or None; and it as it was before each of the last casts."""
 
     def __init__(self):
         self.level = None
+        self.earlier = []
 
 
 def answers(calls):
@@ -73,23 +94,51 @@ def answer_to(table, place, numbers, row):
     if not is_in_range(place, numbers, row):
         return [OUT_OF_RANGE]
     if place == OPEN_LEVEL:
-        table.level = Level(numbers[0], numbers[1], row)
-        return [0]
+        return start_level(table, numbers, row)
     if table.level is None:
         return [NO_LEVEL]
+    if CALLS[place][1] is None:
+        return answer_without_text(table, place, numbers)
+    if numbers:
+        return answer_to_aim(table, place, numbers, row)
+    return answer_to_text(table.level, place, row)
+
+
+def answer_without_text(table, place, numbers):
     if place == PUT_BEING:
-        return put_being(table.level, numbers)
-    if place == CHECK:
-        return check_text(row)
-    if place == PRINT:
-        return print_text(row)
-    if place == COST:
-        return tell_cost(table.level, row)
+        return put_being(table, numbers)
+    if place == UNDO:
+        return undo_cast(table)
+    if place == WHO:
+        return tell_being(table.level, numbers[0])
+    if place == GROUND:
+        return [0] + as_row(table.level.ground)
+    return tell_level(table)
+
+
+def answer_to_aim(table, place, numbers, text):
     if place == CAST:
-        return cast_text(table, numbers, row, True)
+        return cast_text(table, numbers, text, True)
     if place == TRY:
-        return cast_text(table, numbers, row, False)
-    return tell_area(table.level, numbers, row)
+        return cast_text(table, numbers, text, False)
+    return tell_area(table.level, numbers, text)
+
+
+def answer_to_text(level, place, text):
+    if place == CHECK:
+        return check_text(text)
+    if place == BOUND:
+        return tell_bound(level, text)
+    steps = spell_of(text)
+    if steps is None:
+        return [FAULTY]
+    if place == PRINT:
+        return [0] + form_row(steps)
+    if place == COST:
+        return [0, spell_cost(steps, level.width, level.height)]
+    if place == APART:
+        return [0] + as_row(exchanges(steps))
+    return [0] + form_row(simpler_spell(steps))
 
 
 def is_in_range(place, numbers, row):
@@ -99,10 +148,9 @@ def is_in_range(place, numbers, row):
             return False
     if place == PUT_BEING:
         return numbers[2] <= numbers[3]
-    if place == OPEN_LEVEL:
-        if len(row) != numbers[0] * numbers[1]:
-            return False
-    elif len(row) > MOST_BYTES:
+    if place == OPEN_LEVEL and len(row) != numbers[0] * numbers[1]:
+        return False
+    if len(row) > MOST_BYTES:
         return False
     return all([is_within(number, CALLS[place][1]) for number in row])
 
@@ -139,7 +187,14 @@ def aim_of(level, numbers):
     return Aim(level, caster, numbers[1], numbers[2])
 
 
-def put_being(level, numbers):
+def start_level(table, numbers, ground):
+    table.level = Level(numbers[0], numbers[1], ground)
+    table.earlier = []
+    return [0]
+
+
+def put_being(table, numbers):
+    level = table.level
     x = numbers[0]
     y = numbers[1]
     if not level.holds(x, y):
@@ -151,6 +206,7 @@ def put_being(level, numbers):
     number = level.next_number
     level.beings.append(Being(number, x, y, numbers[2], numbers[3], numbers[4], numbers[5]))
     level.next_number = number + 1
+    table.earlier = []
     return [0, number]
 
 
@@ -162,18 +218,15 @@ def check_text(text):
     return [0, 0, 0]
 
 
-def print_text(text):
-    steps = spell_of(text)
-    if steps is None:
-        return [FAULTY]
-    return [0] + as_row([ord(sign) for sign in spell_form(steps)])
+def form_row(steps):
+    return as_row([ord(sign) for sign in spell_form(steps)])
 
 
-def tell_cost(level, text):
-    steps = spell_of(text)
-    if steps is None:
+def tell_bound(level, text):
+    area = area_of(text)
+    if area is None:
         return [FAULTY]
-    return [0, spell_cost(steps, level.width, level.height)]
+    return [0, area_bound(area, level.width, level.height)]
 
 
 def cast_text(table, numbers, text, is_kept):
@@ -193,6 +246,7 @@ def cast_text(table, numbers, text, is_kept):
     gone = as_row(gone_beings(table.level, level))
     answer = [0, cost] + changed + gone + [changed_cells(table.level, level)]
     if is_kept:
+        table.earlier = (table.earlier + [table.level])[-MOST_UNDONE:]
         table.level = level
     return answer
 
@@ -210,3 +264,29 @@ def tell_area(level, numbers, text):
         if cells[cell]:
             told.extend([cell % level.width, cell // level.width])
     return [0] + as_row(told)
+
+
+def undo_cast(table):
+    if not table.earlier:
+        return [NOTHING_TO_UNDO]
+    table.level = table.earlier.pop()
+    return [0]
+
+
+def tell_being(level, number):
+    being = level.being_numbered(number)
+    if being is None:
+        return [NOT_THERE]
+    return [0] + being_numbers(being)
+
+
+def being_numbers(being):
+    return [being.x, being.y, being.life, being.most, being.mana, being.side]
+
+
+def tell_level(table):
+    level = table.level
+    told = []
+    for being in level.beings:
+        told.extend([being.number] + being_numbers(being))
+    return [0, level.width, level.height, level.next_number, len(table.earlier)] + as_row(told)

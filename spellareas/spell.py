@@ -33,3 +33,13 @@ def take_operands(values, word):
     for turn in range(count):
         values.pop()
     return operands
+
+
+def last_operands(area):
+    """The two operands of the | or & that the area ends with."""
+    begin = len(area) - 1
+    wanted = 1
+    while wanted > 0:
+        begin -= 1
+        wanted += OPERANDS.get(area[begin][0], 0) - 1
+    return [area[:begin], area[begin:-1]]

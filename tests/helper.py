@@ -15,14 +15,17 @@ def text(words):
     return row(words.encode() if isinstance(words, str) else words)
 
 
-def open_level(width, height, ground=None):
-    return [0, width, height] + row([1] * (width * height) if ground is None else ground)
+def open_level(width, height, grounds=None):
+    return [0, width, height] + row([1] * (width * height) if grounds is None else grounds)
 
 
 def drawn(*rows):
     """The open call of a level that's drawn: # wall, . floor, ~ water, * ice, ^ fire."""
-    ground = [GROUND_SIGNS.index(sign) for line in rows for sign in line]
-    return open_level(len(rows[0]), len(rows), ground)
+    return open_level(len(rows[0]), len(rows), grounds_of(*rows))
+
+
+def grounds_of(*rows):
+    return [GROUND_SIGNS.index(sign) for line in rows for sign in line]
 
 
 def being(x, y, life=10, most=100, mana=1000000, side=0):
@@ -51,6 +54,34 @@ def attempt(number, x, y, words):
 
 def area(number, x, y, words):
     return [7, number, x, y] + text(words)
+
+
+def bound(words):
+    return [8] + text(words)
+
+
+def apart(words):
+    return [9] + text(words)
+
+
+def tidy(words):
+    return [10] + text(words)
+
+
+def undo():
+    return [11]
+
+
+def who(number):
+    return [12, number]
+
+
+def ground():
+    return [13]
+
+
+def level():
+    return [14]
 
 
 def run(*calls):
@@ -83,6 +114,26 @@ def form(words):
     return bytes(answer[2:]).decode()
 
 
+def tidied(words):
+    """The one form of a spell's text made simpler."""
+    answer = last(open_level(2, 2), tidy(words))
+    assert answer[0] == 0 and answer[1] == len(answer) - 2, answer
+    return bytes(answer[2:]).decode()
+
+
+def apart_row(words):
+    """The row that apart answers."""
+    answer = last(open_level(2, 2), apart(words))
+    assert answer[0] == 0 and answer[1] == len(answer) - 2, answer
+    return answer[2:]
+
+
+def bound_on(width, height, words):
+    answer = last(open_level(width, height), bound(words))
+    assert len(answer) == 2 and answer[0] == 0, answer
+    return answer[1]
+
+
 def cost_on(width, height, words):
     answer = last(open_level(width, height), cost(words))
     assert len(answer) == 2 and answer[0] == 0, answer
@@ -96,9 +147,5 @@ def pairs(answer):
 
 
 def seen(*calls):
-    """What can be seen, when the calls are made, of the level and its beings, with being 1 as caster."""
-    looks = [area(1, 0, 0, word) for word in ("wall", "floor", "water", "ice", "fire")]
-    looks += [area(1, 0, 0, word) for word in ("beings", "foes", "friends", "self")]
-    looks += [attempt(1, 0, 0, "hurt 1 on all"), attempt(1, 0, 0, "heal 1 on all")]
-    looks += [attempt(1, 0, 0, "hurt %d on target" % price) for price in range(1, 31)]
-    return run(*calls, *looks)[len(calls):]
+    """All that can be told, when the calls are made, of the level and its beings."""
+    return run(*calls, ground(), level())[len(calls):]

@@ -2,7 +2,7 @@
 
 import unittest
 
-from helper import attempt, being, cast, cost, fault, form, last, open_level, run
+from helper import apart_row, attempt, being, bound_on, cast, cost, fault, form, last, open_level, run, tidied, who
 
 
 class Examples(unittest.TestCase):
@@ -22,14 +22,25 @@ class Examples(unittest.TestCase):
         self.assertEqual(form(spell), spell)
         self.assertEqual(form(" hurt\t003 on((ball 02|(fire)))&not(self)when foes\n;\rblink on all "), spell)
 
-    def test_the_other_examples_are_spells(self):
-        for spell in (
-            "hurt 1 on all; heal 2 on foes",
-            "push 1 on all; hurt 1 on foes",
-            "set fire on ball 1; hurt 1 on all",
+    def test_steps_that_may_be_exchanged(self):
+        for spell, expected in (
+            ("hurt 1 on all; heal 2 on foes", 1),
+            ("push 1 on all; hurt 1 on foes", 0),
+            ("set fire on ball 1; hurt 1 on all", 1),
         ):
             self.assertEqual(fault(spell), (0, 0))
             self.assertEqual(form(spell), spell)
+            self.assertEqual(tidied(spell), spell)
+            self.assertEqual(apart_row(spell), [expected])
+
+    def test_bounds(self):
+        self.assertEqual(bound_on(5, 2, "line"), 7)
+        self.assertEqual(bound_on(5, 2, "foes"), 8)
+        self.assertEqual(bound_on(5, 2, "line & foes"), 7)
+
+    def test_it_leaves_being_2_with_life_3(self):
+        calls = [open_level(5, 2), being(0, 0), being(2, 0, life=5, most=5, mana=8, side=1), cast(1, 4, 0, "hurt 2 on line & foes")]
+        self.assertEqual(last(*calls, who(2)), [0, 2, 0, 3, 5, 8, 1])
 
     def test_mana_is_less_after_the_cast(self):
         spell = "hurt 2 on line & foes"

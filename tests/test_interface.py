@@ -3,7 +3,9 @@
 import sys
 import unittest
 
-from helper import area, attempt, being, cast, check, cost, drawn, open_level, print_form, run
+from helper import (
+    apart, area, attempt, being, bound, cast, check, cost, drawn, ground, level, open_level, print_form, run, tidy, undo, who,
+)
 
 from spellareas.level import answers
 
@@ -11,11 +13,17 @@ CALLS = [
     check("blink on all"), open_level(1, 1), drawn("..#", "^.~"), being(0, 0, mana=50), being(1, 1, life=3, side=1),
     being(2, 0), check("blink"), print_form("blink on(all)"), cost("hurt 1 on all"), attempt(1, 2, 1, "set ice on all"),
     cast(1, 2, 1, "hurt 3 on foes; blink on all; set ice on self"), area(1, 0, 0, "beings | ice"), cast(2, 0, 0, "blink on all"),
+    bound("line | self"), bound("blink on all"), apart("blink on all; set ice on ice; set ice on all"), tidy("blink on self & all"),
+    who(2), ground(), level(), undo(), undo(), who(2), ground(), level(), who(0),
 ]
 FLAT = [number for call in CALLS for number in call]
 ANSWERED = [
     1, -2, 1, -1, 1, 0, 2, 0, 1, 2, 0, 2, 1, -4, 3, 0, 2, 5, 14, 0, 12] + list(b"blink on all") + [
-    2, 0, 6, 5, 0, 18, 0, 0, 6, 10, 0, 26, 4, 1, 2, 1, 10, 1, 2, 1, 4, 0, 2, 2, 1, 1, -3]
+    2, 0, 6, 5, 0, 18, 0, 0, 6, 10, 0, 26, 4, 1, 2, 1, 10, 1, 2, 1, 4, 0, 2, 2, 1, 1, -3,
+    2, 0, 6, 1, -4, 5, 0, 3, 0, 0, 0, 15, 0, 13] + list(b"blink on self") + [
+    1, -3, 8, 0, 6, 1, 1, 0, 4, 1, 3, 13, 0, 3, 2, 3, 1, 7, 1, 2, 1, 10, 100, 24, 0, 1, 0, 1, -8,
+    7, 0, 1, 1, 3, 100, 1000000, 1, 8, 0, 6, 1, 1, 0, 4, 1, 2,
+    20, 0, 3, 2, 3, 0, 14, 1, 0, 0, 10, 100, 50, 0, 2, 1, 1, 3, 100, 1000000, 1, 1, -1]
 
 
 class Interface(unittest.TestCase):
@@ -62,6 +70,14 @@ class Interface(unittest.TestCase):
         calls = [open_level(12, 12)] + [being(0, 0)] + [attempt(1, 5, 5, "set ice on burst 9")] * 98
         self.assertEqual(run(*calls), [[0], [0, 1]] + [[0, 432, 0, 0, 144]] * 98)
 
+    def test_a_hundred_calls_that_tell_much(self):
+        full = ";".join(["blink on ice"] * 23)
+        each = run(open_level(12, 12), *[ground()] * 33, *[apart(full)] * 14, *[tidy(full)] * 14, *[level()] * 38)
+        self.assertEqual(each[1:34], [[0, 144] + [1] * 144] * 33)
+        self.assertEqual(each[34:48], [[0, 253] + [0] * 253] * 14)
+        self.assertEqual(each[48:62], [[0, 23 * 14 - 2] + list("; ".join(["blink on ice"] * 23).encode())] * 14)
+        self.assertEqual(each[62:], [[0, 12, 12, 1, 0, 0]] * 38)
+
     def test_many_levels(self):
         calls = []
         for turn in range(33):
@@ -77,7 +93,7 @@ class Interface(unittest.TestCase):
         calls = [open_level(12, 12), being(0, 0)]
         for words in (chain, deep, chain.replace("|", "&")):
             calls += [area(1, 3, 3, words), check("blink on " + words), print_form("blink on " + words), cost("blink on " + words)]
-            calls += [attempt(1, 3, 3, "blink on " + words)]
+            calls += [attempt(1, 3, 3, "blink on " + words), bound(words), apart("blink on " + words), tidy("blink on " + words)]
         depth = 0
         frame = sys._getframe()
         while frame is not None:

@@ -8,7 +8,9 @@ import random
 import re
 import unittest
 
-from helper import area, attempt, being, cast, check, cost, open_level, print_form, run
+from helper import (
+    apart, area, attempt, being, bound, cast, check, cost, ground, level, open_level, print_form, run, tidy, undo, who,
+)
 
 GROUNDS = ("wall", "floor", "water", "ice", "fire")
 UNSIZED = ("self", "target", "line", "bolt", "all", "beings", "foes", "friends") + GROUNDS
@@ -165,7 +167,7 @@ def steps_of(text):
     return steps
 
 
-def bound(tree, w, h):
+def bound_of(tree, w, h):
     word, parts = tree[0], tree[1:]
     if word in ("self", "target"):
         return 1
@@ -178,11 +180,11 @@ def bound(tree, w, h):
     if word in ("beings", "foes", "friends"):
         return min(8, w * h)
     if word == "grow":
-        return min(9 * bound(parts[0], w, h), w * h)
+        return min(9 * bound_of(parts[0], w, h), w * h)
     if word == "&":
-        return min(bound(parts[0], w, h), bound(parts[1], w, h))
+        return min(bound_of(parts[0], w, h), bound_of(parts[1], w, h))
     if word == "|":
-        return min(bound(parts[0], w, h) + bound(parts[1], w, h), w * h)
+        return min(bound_of(parts[0], w, h) + bound_of(parts[1], w, h), w * h)
     return w * h
 
 
@@ -192,9 +194,65 @@ def cost_of(steps, w, h):
         if act == "blink":
             total += 5
         else:
-            total += {"hurt": amount, "set": 3}.get(act, 2 * amount if act != "set" else 0) * bound(tree, w, h)
+            total += {"hurt": amount, "set": 3}.get(act, 2 * amount if act != "set" else 0) * bound_of(tree, w, h)
         total += when is not None
     return total
+
+
+def words_in(tree):
+    if tree is None:
+        return set()
+    return {tree[0]}.union(*(words_in(part) for part in tree[1:] if isinstance(part, tuple)))
+
+
+def apart_of(steps):
+    told = []
+    for k, first in enumerate(steps):
+        for second in steps[k + 1:]:
+            told.append(int(may_be_exchanged(first, second)))
+    return told
+
+
+def may_be_exchanged(first, second):
+    traits = []
+    for act, amount, tree, when in (first, second):
+        words = words_in(tree) | words_in(when)
+        moves, sets = act in ("push", "pull", "blink"), act == "set"
+        places = bool(words & {"self", "line", "bolt", "beings", "foes", "friends"}) or not sets or amount == "wall"
+        on_ground = bool(words & {"bolt", "burst", "wall", "floor", "water", "ice", "fire"}) or moves
+        traits.append((moves, sets, places, on_ground))
+    for one, other in (traits, traits[::-1]):
+        if one[0] and other[2] or one[1] and other[3]:
+            return False
+    return not (traits[0][1] and traits[1][1]) or first[1] == second[1]
+
+
+def simpler(tree):
+    everything = ("all", 0)
+    if tree[0] == "not":
+        inner = simpler(tree[1])
+        return inner[1] if inner[0] == "not" else ("not", inner)
+    if tree[0] == "grow":
+        inner = simpler(tree[1])
+        return everything if inner == everything else ("grow", inner)
+    if tree[0] not in ("&", "|"):
+        return tree
+    a, b = simpler(tree[1]), simpler(tree[2])
+    if tree[0] == "&":
+        if a == everything or a == b:
+            return b
+        if b == everything:
+            return a
+        return a if b[0] == "|" and a in b[1:] else ("&", a, b)
+    if everything in (a, b):
+        return everything
+    if a == b:
+        return a
+    return a if b[0] == "&" and a in b[1:] else ("|", a, b)
+
+
+def simpler_steps(steps):
+    return [(act, amount, simpler(tree), when and simpler(when)) for act, amount, tree, when in steps]
 
 
 def far(a, b):
@@ -204,6 +262,7 @@ def far(a, b):
 class Model:
     def __init__(self):
         self.ground = None
+        self.past = []
 
     def cells(self, tree, caster, target):
         word, parts = tree[0], tree[1:]
@@ -249,7 +308,7 @@ class Model:
             return [-1]
         self.w, self.h = w, h
         self.ground = {(k % w, k // w): GROUNDS[kind] for k, kind in enumerate(ground)}
-        self.beings, self.following = {}, 1
+        self.beings, self.following, self.past = {}, 1, []
         return [0]
 
     def being(self, x, y, life, most, mana, side):
@@ -265,6 +324,7 @@ class Model:
             return [-5]
         self.beings[self.following] = {"cell": (x, y), "life": life, "most": most, "mana": mana, "side": side}
         self.following += 1
+        self.past = []
         return [0, self.following - 1]
 
     def aimed(self, number, x, y, text, whole):
@@ -305,9 +365,56 @@ class Model:
             if (one["cell"], one["life"]) != (beings[each]["cell"], beings[each]["life"]):
                 changed += [each, *one["cell"], one["life"]]
         cells = sum(self.ground[c] != ground[c] for c in ground)
-        if not kept:
+        if kept:
+            self.past = [*self.past, (ground, beings)][-20:]
+        else:
             self.ground, self.beings = ground, beings
         return [0, price, len(changed)] + changed + [len(gone)] + gone + [cells]
+
+    def undo(self):
+        if self.ground is None:
+            return [-2]
+        if not self.past:
+            return [-8]
+        self.ground, self.beings = self.past.pop()
+        return [0]
+
+    def told(self, number):
+        one = self.beings[number]
+        return [*one["cell"], one["life"], one["most"], one["mana"], one["side"]]
+
+    def who(self, number):
+        if not 1 <= number <= 1000:
+            return [-1]
+        if self.ground is None:
+            return [-2]
+        return [0] + self.told(number) if number in self.beings else [-3]
+
+    def grounds(self):
+        if self.ground is None:
+            return [-2]
+        return [0, self.w * self.h] + [GROUNDS.index(self.ground[x, y]) for y in range(self.h) for x in range(self.w)]
+
+    def level(self):
+        if self.ground is None:
+            return [-2]
+        told = [part for number in sorted(self.beings) for part in [number] + self.told(number)]
+        return [0, self.w, self.h, self.following, len(self.past), len(told)] + told
+
+    def bound(self, text):
+        if self.ground is None:
+            return [-2]
+        if first_fault(text, "area")[0]:
+            return [-4]
+        return [0, bound_of(tree_of([token for place, token in tokens(text)][:-1]), self.w, self.h)]
+
+    def apart(self, text):
+        if self.ground is None:
+            return [-2]
+        if first_fault(text, "spell")[0]:
+            return [-4]
+        told = apart_of(steps_of(text))
+        return [0, len(told)] + told
 
     def do(self, step, caster, target):
         act, amount, tree, when = step
@@ -337,8 +444,9 @@ class Model:
 class Maker:
     """Makes calls up."""
 
-    def __init__(self, seed):
+    def __init__(self, seed, unsized=UNSIZED, sized=SIZED):
         self.random = random.Random(seed)
+        self.unsized, self.sized = unsized, sized
 
     def pick(self, *choices):
         return self.random.choice(choices)
@@ -346,9 +454,9 @@ class Maker:
     def area_words(self, depth):
         kind = self.random.random()
         if depth == 0 or kind < 0.25:
-            if self.random.random() < 0.3:
-                return [self.pick(*SIZED), self.pick("0", "1", "2", "3", "9", "02", "001")]
-            return [self.pick(*UNSIZED)]
+            if self.sized and self.random.random() < 0.3:
+                return [self.pick(*self.sized), self.pick("0", "1", "2", "3", "9", "02", "001")]
+            return [self.pick(*self.unsized)]
         inner = self.area_words(depth - 1)
         if kind < 0.4:
             return ["("] + inner + [")"]
@@ -408,28 +516,60 @@ class Maker:
 class AgainstTheModel(unittest.TestCase):
     def calls_and_answers(self, maker):
         model, calls, expected = Model(), [], []
-        w, h, ground = maker.level()
-        calls.append(open_level(w, h, ground))
-        expected.append(model.open(w, h, ground))
+        if maker.random.random() < 0.1:
+            self.add_look(maker, model, calls, expected)
+        self.add_open(maker, model, calls, expected)
         for turn in range(maker.random.randint(20, 60)):
             kind = maker.random.random()
-            x, y = maker.random.randint(0, w - 1), maker.random.randint(0, h - 1)
-            number = maker.random.randint(1, min(9, model.following))
-            if kind < 0.2:
-                life = maker.random.randint(1, 12)
-                numbers = (x, y, life, life + maker.pick(-1, 0, 1, 20), maker.pick(0, 50, 9000), maker.random.randint(0, 2))
-                calls.append(being(*numbers))
-                expected.append(model.being(*numbers))
-            elif kind < 0.4:
-                text = maker.words("area")
-                calls.append(area(number, x, y, text))
-                expected.append(model.area(number, x, y, text))
+            if kind < 0.01:
+                self.add_open(maker, model, calls, expected)
+            elif kind < 0.2 and (len(model.past) < 3 or kind < 0.03):
+                self.add_being(maker, model, calls, expected)
+            elif kind < 0.3:
+                calls.append(undo())
+                expected.append(model.undo())
+            elif kind < 0.5:
+                self.add_look(maker, model, calls, expected)
             else:
-                text = maker.words("spell")
-                kept = kind < 0.8
-                calls.append((cast if kept else attempt)(number, x, y, text))
-                expected.append(model.cast(number, x, y, text, kept))
+                self.add_aimed(maker, model, calls, expected)
         return calls, expected
+
+    def add_open(self, maker, model, calls, expected):
+        w, h, grounds = maker.level()
+        calls.append(open_level(w, h, grounds))
+        expected.append(model.open(w, h, grounds))
+
+    def add_being(self, maker, model, calls, expected):
+        life = maker.random.randint(1, 12)
+        numbers = (
+            maker.random.randint(0, model.w - 1), maker.random.randint(0, model.h - 1), life, life + maker.pick(-1, 0, 1, 20),
+            maker.pick(0, 50, 9000, 90000), maker.random.randint(0, 2),
+        )
+        calls.append(being(*numbers))
+        expected.append(model.being(*numbers))
+
+    def add_look(self, maker, model, calls, expected):
+        number, area_text, spell_text = maker.random.randint(0, 9), maker.words("area"), maker.words("spell")
+        call, answer = maker.pick(
+            (lambda: who(number), lambda: model.who(number)), (ground, model.grounds), (level, model.level),
+            (lambda: bound(area_text), lambda: model.bound(area_text)), (lambda: apart(spell_text), lambda: model.apart(spell_text)),
+        )
+        calls.append(call())
+        expected.append(answer())
+
+    def add_aimed(self, maker, model, calls, expected):
+        x, y = maker.random.randint(0, model.w - 1), maker.random.randint(0, model.h - 1)
+        number = maker.random.randint(1, min(9, model.following))
+        kind = maker.random.random()
+        if kind < 0.3:
+            text = maker.words("area")
+            calls.append(area(number, x, y, text))
+            expected.append(model.area(number, x, y, text))
+        else:
+            text = maker.words("spell")
+            kept = kind < 0.8
+            calls.append((cast if kept else attempt)(number, x, y, text))
+            expected.append(model.cast(number, x, y, text, kept))
 
     def test_levels(self):
         accepted = 0
@@ -457,20 +597,38 @@ class AgainstTheModel(unittest.TestCase):
                 self.assertEqual([printed, priced], [[-4], [-4]], text)
             else:
                 self.assertEqual(priced, [0, cost_of(steps_of(text), 5, 4)], text)
-                self.assert_one_form(text, printed)
+                self.assert_one_form(steps_of(text), printed)
         self.assertEqual(sorted(met), [0, 1, 2, 3, 6])
         self.assertGreater(min(met.values()), 10)
 
-    def assert_one_form(self, text, printed):
+    def test_simpler_texts(self):
+        makers = (Maker(2000), Maker(2001, ("fire", "ice", "all"), ()), Maker(2002, ("fire", "all"), ()), Maker(2003, ("fire", "self"), ("ring",)))
+        changed = 0
+        for turn in range(3000):
+            maker = makers[turn % len(makers)]
+            words = ["blink", "on"] + maker.area_words(maker.pick(1, 2, 3, 4, 5))
+            if maker.random.random() < 0.3:
+                words += ["when"] + maker.area_words(maker.pick(1, 2, 3, 4))
+            text = maker.text(words)
+            told = run(open_level(2, 2), tidy(text))[1]
+            if first_fault(text, "spell")[0]:
+                self.assertEqual(told, [-4], text)
+            else:
+                steps = simpler_steps(steps_of(text))
+                self.assert_one_form(steps, told)
+                changed += steps != steps_of(text)
+        self.assertGreater(changed, 1000)
+
+    def assert_one_form(self, steps, printed):
         self.assertEqual(printed[:2], [0, len(printed) - 2])
         form = bytes(printed[2:])
         self.assertEqual(first_fault(form, "spell"), (0, 0), form)
-        self.assertEqual(steps_of(form), steps_of(text), form)
+        self.assertEqual(steps_of(form), steps, form)
         self.assertIsNone(re.search(rb"  |[^ -~]|\( | [);]|\b0[0-9]|^ | $|[;|&][^ ]|[a-z0-9)][|&(]", form), form)
         for opening in [place for place, token in tokens(form) if token == "("]:
             closing = self.closing_of(form, opening)
             without = form[:opening] + b" " + form[opening + 1:closing] + b" " + form[closing + 1:]
-            self.assertNotEqual(steps_of(without), steps_of(text), form)
+            self.assertNotEqual(steps_of(without), steps, form)
 
     def closing_of(self, form, opening):
         depth = 0

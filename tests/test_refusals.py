@@ -4,27 +4,34 @@ import unittest
 
 from helper import (
     GREATEST,
+    apart,
     area,
     attempt,
     being,
+    bound,
     cast,
     check,
     cost,
     drawn,
+    ground,
     last,
+    level,
     open_level,
     print_form,
     run,
     seen,
+    tidy,
+    undo,
+    who,
 )
 
 AIMED = (cast, attempt, area)
-TEXTED = (check, print_form, cost)
+TEXTED = (check, print_form, cost, bound, apart, tidy)
 STAGE = [drawn("..#.", "....", "^^~*"), being(0, 0, mana=20), being(1, 1, life=3, most=7, side=2)]
 
 
 def good_text(call):
-    return "all" if call == area else "hurt 1 on all"
+    return "all" if call in (area, bound) else "hurt 1 on all"
 
 
 class Ranges(unittest.TestCase):
@@ -134,13 +141,19 @@ class Refusals(unittest.TestCase):
             self.assertEqual(last(call(1, 0, 0, good_text(call))), [-2])
             self.assertEqual(last(call(9, 11, 11, "nothing")), [-2])
 
+        for call in (undo(), who(1), ground(), level()):
+            self.assertEqual(last(call), [-2])
+
     def test_a_refused_open_opens_nothing(self):
         self.assertEqual(run(open_level(2, 2, [1, 1, 1, 5]), being(0, 0)), [[-1], [-2]])
+        self.assertEqual(run(open_level(1, 2), undo(), who(1), ground(), level()), [[-1]] + [[-2]] * 4)
 
     def test_range_goes_before_no_level(self):
         self.assertEqual(last(being(-1, 0)), [-1])
         self.assertEqual(last(being(0, 0, life=5, most=4)), [-1])
         self.assertEqual(last(being(0, 0, side=4)), [-1])
+        self.assertEqual(last(who(0)), [-1])
+        self.assertEqual(last(who(1001)), [-1])
         for call in TEXTED:
             self.assertEqual(last(call([256])), [-1])
         for call in AIMED:
@@ -191,7 +204,7 @@ class Refusals(unittest.TestCase):
                     self.assertEqual(last(*STAGE, call(number, x, y, words)), [-3])
 
     def test_faulty_texts(self):
-        for call in (print_form, cost):
+        for call in (print_form, cost, apart, tidy):
             for words in ("", "all", "hurt 1 on all;", "hurt 100 on all", "hurt 1 on all @", "blink on " + "not " * 13 + "all"):
                 self.assertEqual(last(*STAGE, call(words)), [-4])
         for call in (cast, attempt):
@@ -200,6 +213,7 @@ class Refusals(unittest.TestCase):
         for words in ("", "hurt 1 on all", "all;", "all when all", "all all", "ball", "ball 10", "all |", "(all", "all)",
                       "all @", "not " * 13 + "all"):
             self.assertEqual(last(*STAGE, area(1, 0, 0, words)), [-4])
+            self.assertEqual(last(*STAGE, bound(words)), [-4])
 
     def test_a_fault_goes_before_too_little_mana(self):
         for call in (cast, attempt):
@@ -218,6 +232,7 @@ class Refusals(unittest.TestCase):
             cast(3, 0, 0, "blink on all"), cast(1, 4, 0, "blink on all"), cast(1, 0, 0, [0, 300]),
             attempt(1, 0, 0, "set wall on all"), attempt(3, 0, 0, "blink on all"),
             area(1, 0, 0, "all all"), area(3, 0, 0, "all"), area(0, 0, 0, "all"),
+            bound("hurt 1 on all"), bound([-1]), apart("all"), apart([256]), tidy("all"), tidy([256]), who(0), who(3), undo(),
         ]
         for call in refused:
             answer = run(*STAGE, call)[-1]
@@ -226,6 +241,11 @@ class Refusals(unittest.TestCase):
             self.assertEqual(seen(*STAGE, call), before, call)
             self.assertEqual(last(*STAGE, call, being(0, 1)), [0, 3])
         self.assertEqual(seen(*STAGE, *refused), before)
+        done = [*STAGE, cast(2, 0, 1, "hurt 1 on foes; set ice on fire")]
+        for call in refused[:-1]:
+            self.assertEqual(seen(*done, call), seen(*done), call)
+            self.assertEqual(seen(*done, call, undo()), before, call)
+        self.assertEqual(seen(*done, *refused[:-1]), seen(*done))
 
     def test_a_new_level(self):
         again = [open_level(3, 3)]
